@@ -1,0 +1,1 @@
+"""Rows of brackets, trees and partings, each one number."""
