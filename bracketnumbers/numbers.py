@@ -64,9 +64,10 @@ def has_row(size, wanted):
     return wanted < count(size, size)
 
 
+# The refusal does not name the number: Python does not write those of more than some thousand digits.
 def row_of(size, number):
     if not has_row(size, number):
-        raise NoRow(f"no whole row of size {size} has the number {number}")
+        raise NoRow("no whole row of this size has this number")
     table = endings_of_size(size)
     signs = []
     level = 0

@@ -33,9 +33,10 @@ def depth(row):
 
 
 # One walk does for both kinds of bracket: away from the bracket, until as many shut as open.
+# The refusal does not name the place: Python does not write numbers of more than some thousand digits.
 def partner(row, place):
     if place < 0 or place >= len(row):
-        raise NoPlace(f"the row has no place {place}")
+        raise NoPlace("the row has no such place")
     step = rise(row[place])
     level = step
     here = place

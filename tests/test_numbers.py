@@ -123,7 +123,7 @@ class RowOf(Refusals):
     def test_no_row_below_nought_and_from_the_count_on(self):
         for size in range(LARGEST + 1):
             total = count(size, size)
-            for told in (-1, -2, -total, -10 ** 50, total, total + 1, 2 * total, 10 ** 50):
+            for told in (-1, -2, -total, -10 ** 5000, total, total + 1, 2 * total, 10 ** 5000):
                 self.assert_no_row(row_of, size, told)
 
     def test_no_row_of_a_size_that_rows_have_not(self):
@@ -136,7 +136,7 @@ class NextRow(Refusals):
         for size, rows in enumerate(ALL_SMALL):
             row = "(" * size + ")" * size
             walked = []
-            while row is not None:
+            while row is not None and len(walked) <= len(rows):
                 walked.append(row)
                 row = next_row(row)
             self.assertEqual(walked, sorted(rows))

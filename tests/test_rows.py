@@ -93,7 +93,8 @@ class Partner(unittest.TestCase):
     def test_no_place(self):
         for row in ROWS:
             length = len(row)
-            for place in (-1, -2, -length, -length - 1, -10 ** 30, length, length + 1, 2 * length + 5, 10 ** 30):
+            far = 10 ** 5000
+            for place in (-1, -2, -length, -length - 1, -far, length, length + 1, 2 * length + 5, far):
                 if 0 <= place < length:
                     continue
                 for taken in (NoPlace, BracketError, ValueError):
