@@ -1,7 +1,9 @@
 """Holds a file of the package against LANGUAGE.md, and tells each fault as (rule, line).
 
 Where the package has no need of a form that the rules allow under conditions (sets, lambda, try, inner
-functions, annotations), the form is refused outright: that is simpler, and never too lenient.
+functions, annotations, methods, values of objects, `key=`, backslashes), the form is refused outright: that is
+simpler, and never too lenient. So L13, L24, L26 and L28 have nothing left to speak of. What no form shows is
+left to reading: of L11, how deep a recursion goes, and that nothing hangs on the words of Python's own errors.
 """
 
 import ast
@@ -18,9 +20,10 @@ METHODS = """append clear copy count endswith extend find get index insert isaln
     isupper items join keys ljust lower lstrip partition pop remove replace reverse rfind rjust rpartition rsplit
     rstrip setdefault split splitlines startswith strip update upper values zfill bit_length""".split()
 KEYWORDS = {
-    "sorted": ("key", "reverse"), "min": ("key", "default"), "max": ("key", "default"), "sum": ("start",),
-    "enumerate": ("start",), "zip": ("strict",),
+    "sorted": ("reverse",), "min": ("default",), "max": ("default",), "sum": ("start",), "enumerate": ("start",),
+    "zip": ("strict",),
 }
+CHANGING = ("append", "clear", "extend", "insert", "pop", "remove", "reverse", "setdefault", "update")
 WALKED = ("zip", "enumerate", "reversed", "range", "items", "keys", "values")
 WALKERS = ("list", "tuple", "dict", "sorted", "sum", "any", "all", "enumerate", "zip", "min", "max")
 BASES = [name for name in ERRORS if name not in ("StopIteration", "AttributeError")]
@@ -29,6 +32,7 @@ NAMES_OUT = """register mro elements open input version_info with_traceback add_
     methodcaller os quit setattr super type vars sys chr print set frozenset format format_map""".split()
 WORDS_OUT = """type typing typing_extensions enum Enum IntEnum StrEnum Flag IntFlag Generic Protocol ABC ABCMeta
     namedtuple NamedTuple TypedDict TYPE_CHECKING abstractmethod""".split()
+FILES_OUT = "test tests testing site conftest sitecustomize usercustomize".split() + WORDS_OUT + dir(builtins)
 PIECES_OUT = ("dataclass", "overload", "contextmanager")
 FORMS = (
     ast.Module, ast.ImportFrom, ast.alias, ast.FunctionDef, ast.arguments, ast.arg, ast.ClassDef, ast.Assign,
@@ -62,6 +66,8 @@ def faults_of_signs(text):
             found.append(("L10", place))
         if not all(" " <= sign <= "~" for sign in line):
             found.append(("L14", place))
+        if "\\" in line:
+            found.append(("L27", place))
         words = re.findall(r"[A-Za-z0-9_]+", line)
         if any(word in WORDS_OUT for word in words) or any(piece in line for piece in PIECES_OUT):
             found.append(("L17", place))
@@ -99,6 +105,8 @@ def faults_of_top(tree, own_modules):
     names = bound_at_top(tree)
     if len(names) != len(set(names)):
         found.append(("L15", 0))
+    if any(name in dir(builtins) for name in names):
+        found.append(("L8", 0))
     for place, node in enumerate(tree.body):
         if isinstance(node, ast.ImportFrom):
             drawn = [alias.name for alias in node.names]
@@ -191,8 +199,8 @@ def of_class(node):
     found = of_written_name(node.name)
     if len(node.bases) > 1 or node.keywords or node.decorator_list or not isinstance(node.parent, ast.Module):
         found.append("L5")
-    if not all(isinstance(part, (ast.FunctionDef, ast.Pass)) for part in node.body):
-        found.append("L5")
+    if not all(isinstance(part, ast.Pass) for part in node.body):
+        found.append("L28" if any(isinstance(part, ast.FunctionDef) for part in node.body) else "L5")
     if any(isinstance(base, ast.Name) and base.id in ERRORS and base.id not in BASES for base in node.bases):
         found.append("L18")
     return found
@@ -201,8 +209,19 @@ def of_class(node):
 def of_written_name(name):
     if name in NAMES_OUT:
         return ["L17"]
-    plain = re.fullmatch(r"[A-Za-z][A-Za-z0-9_]*", name) or name == "__init__"
-    return [] if plain else ["L12"]
+    return [] if re.fullmatch(r"[A-Za-z][A-Za-z0-9_]*", name) else ["L12"]
+
+
+def is_class_name(name):
+    """The package's constants are written in capitals alone, its functions without any."""
+    return name[0].isupper() and not name.isupper()
+
+
+def class_stands_well(node):
+    parent = node.parent
+    if isinstance(parent, ast.ClassDef):
+        return True
+    return isinstance(parent, ast.Call) and parent.func is node and isinstance(parent.parent, ast.Raise)
 
 
 def of_name(node):
@@ -210,16 +229,20 @@ def of_name(node):
     is_called = isinstance(node.parent, ast.Call) and node.parent.func is node
     in_isinstance = any(isinstance(up, ast.Call) and called_name(up) == "isinstance"
                         for up in (node.parent, getattr(node.parent, "parent", None)))
-    if node.id in CALLED and not is_called and not in_isinstance and not isinstance(node.parent, ast.keyword):
+    if node.id in CALLED and not is_called and not in_isinstance:
         found.append("L22")
+    if is_class_name(node.id) and not class_stands_well(node):
+        found.append("L18")
     return found
 
 
 def of_call(node):
     found = []
     name = called_name(node)
-    if isinstance(node.func, ast.Attribute) and name not in METHODS and name != "__init__":
+    if isinstance(node.func, ast.Attribute) and name not in METHODS:
         found.append("L25")
+    if name in ("sorted", "zip") and any(not isinstance(word.value, ast.Constant) for word in node.keywords):
+        found.append("L22")
     if name in CALLED + METHODS and any(word.arg not in KEYWORDS.get(name, ()) for word in node.keywords):
         found.append("L22")
     if name in WALKED and not is_walked(node):
@@ -238,13 +261,32 @@ def is_walked(node):
 
 def of_attribute(node):
     is_called = isinstance(node.parent, ast.Call) and node.parent.func is node
-    return of_written_name(node.attr) + (["L25"] if node.attr in METHODS and not is_called else [])
+    if is_called:
+        return of_written_name(node.attr)
+    return of_written_name(node.attr) + ["L25" if node.attr in METHODS else "L26"]
+
+
+def of_loop(node):
+    found = ["L6"] if node.orelse else []
+    iterated = list(ast.walk(node.iter)) if isinstance(node, ast.For) else []
+    walked = [part.id for part in iterated if isinstance(part, ast.Name)]
+    for part in [inner for line in node.body for inner in ast.walk(line)]:
+        if isinstance(part, ast.Call) and isinstance(part.func, ast.Attribute) and part.func.attr in CHANGING:
+            changed = part.func.value
+        elif isinstance(part, ast.Subscript) and isinstance(part.ctx, ast.Store):
+            changed = part.value
+        elif isinstance(part, ast.AugAssign):
+            changed = part.target
+        else:
+            continue
+        found += ["L23"] if isinstance(changed, ast.Name) and changed.id in walked else []
+    return found
 
 
 def of_constant(node):
     value = node.value
     found = [] if value is None or isinstance(value, (int, str)) else ["L7"]
-    if isinstance(value, str) and "%" in value:
+    if isinstance(value, str) and "%" in value or isinstance(value, int) and value >= 10 ** 900:
         found.append("L27")
     return found
 
@@ -262,7 +304,9 @@ def of_power(node):
 
 
 def of_raise(node):
-    return [] if isinstance(node.exc, ast.Call) and node.cause is None else ["L19"]
+    if not isinstance(node.exc, ast.Call) or node.cause is not None:
+        return ["L19"]
+    return ["L19"] if called_name(node.exc) in ERRORS else []
 
 
 def of_statement(node):
@@ -283,6 +327,6 @@ NODE_RULES = (
     (ast.Attribute, of_attribute), (ast.Constant, of_constant), (ast.Compare, of_compare), (ast.BinOp, of_power),
     (ast.Raise, of_raise), (ast.Expr, of_statement), (ast.ListComp, of_comprehension),
     (ast.FormattedValue, of_braces), (ast.arg, lambda node: of_written_name(node.arg)),
-    ((ast.For, ast.While), lambda node: ["L6"] if node.orelse else []),
+    ((ast.For, ast.While), of_loop),
     (ast.Assign, lambda node: ["L6"] if len(node.targets) > 1 else []),
 )

@@ -4,6 +4,7 @@ import itertools
 import random
 
 LARGEST = 60
+MIDDLING = 20
 
 
 def shrinks_to_nothing(text):
@@ -47,6 +48,13 @@ def sample_rows():
     return rows
 
 
+def middling_rows():
+    """Whole rows of every size from 0 to 20."""
+    source = random.Random(21)
+    rows = [row for row in sample_rows() if len(row) <= 2 * MIDDLING]
+    return rows + [whole_row(source, size, lean) for size in range(3, MIDDLING + 1) for lean in (0.4, 0.6, 0.8)]
+
+
 def spoilt(row):
     """All texts that come of a row when one sign is left out, doubled, put in, or another in its place."""
     for place, sign in enumerate(row):
@@ -81,6 +89,11 @@ def nested(thing, deep, wrap):
     for turn in range(deep):
         thing = wrap(thing)
     return thing
+
+
+def doubled_things():
+    """Things thirty deep that no walk through all their parts comes to the end of."""
+    return [nested(core, 30, lambda one: wrap((one, one))) for core in (0, (), "()") for wrap in (list, tuple)]
 
 
 def other_things():

@@ -1,6 +1,6 @@
 import unittest
 
-from bracketnumbers import errors, numbers, rows
+from bracketnumbers import errors, moves, numbers, partings, rows
 
 
 class Errors(unittest.TestCase):
@@ -17,4 +17,5 @@ class Errors(unittest.TestCase):
 
     def test_the_modules_that_refuse_have_their_error(self):
         self.assertIs(rows.NoPlace, errors.NoPlace)
-        self.assertIs(numbers.NoRow, errors.NoRow)
+        for module in (numbers, partings, moves):
+            self.assertIs(module.NoRow, errors.NoRow)

@@ -27,7 +27,9 @@ class TheFiles(unittest.TestCase):
     def test_names(self):
         for path in FILES:
             self.assertTrue(path.is_file(), path)
-            self.assertTrue(re.fullmatch(r"__init__\.py|__main__\.py|[a-z][a-z0-9_]*\.py", path.name), path)
+            self.assertTrue(re.fullmatch(r"__init__\.py|[a-z][a-z0-9_]*\.py", path.name), path)
+            self.assertNotIn(path.stem, language.FILES_OUT)
+            self.assertFalse(path.stem.startswith("test_"), path)
 
     def test_there_is_an_init_that_binds_nothing(self):
         self.assertEqual(own_modules()[f"{language.PACKAGE}.__init__"], [])
@@ -61,11 +63,21 @@ BROKEN = [
     ("L15", "x = 1\nx = 2"), ("L15", "def f(next):\n    return next"), ("L15", "X = {}\ndef f(a):\n    X[a] = 1"),
     ("L15", "X = []\ndef f(a):\n    X.append(a)"), ("L15", "X = []\ndef f(a):\n    return X"),
     ("L17", "# the type of it"), ("L17", "def f(a):\n    return open(a)"), ("L18", "class A(StopIteration):\n    pass"),
-    ("L19", "def f(a):\n    raise a"), ("L20", "def f(a, b):\n    return a is b"), ("L21", "def f(a: int):\n    return a"),
+    ("L19", "def f(a):\n    raise a"), ("L20", "def f(a, b):\n    return a is b"),
+    ("L21", "def f(a: int):\n    return a"),
     ("L22", "def f(a):\n    g = len\n    return g(a)"), ("L22", "def f(a):\n    return a.split(sep='x')"),
     ("L23", "def f(a):\n    x = range(a)\n    return x"), ("L23", "def f(a):\n    return list(reversed(range(a)))"),
     ("L25", "def f(a):\n    return a.title()"), ("L25", "def f(a):\n    return a.append"),
-    ("L27", "def f(a):\n    return 2 ** a"), ("L27", "x = '10%'"),
+    ("L27", "def f(a):\n    return 2 ** a"), ("L27", "x = '10%'"), ("L27", "x = '\\x41'"), ("L27", "x = " + "9" * 901),
+    ("L8", "def max(a):\n    return a"), ("L7", "def f(a):\n    return lambda: a"),
+    ("L17", "def f(a):\n    return set(a)"),
+    ("L18", "class One(ValueError):\n    pass\ndef f(a):\n    return One"),
+    ("L18", "def f(a):\n    return [ValueError]"),
+    ("L19", "def f(a):\n    raise ValueError(a)"), ("L19", "def f(a):\n    raise"),
+    ("L22", "def f(a):\n    return sorted(a, key=len)"), ("L22", "def f(a):\n    return sorted(a, reverse=a)"),
+    ("L23", "def f(a):\n    for x in a:\n        a.append(x)"), ("L23", "def f(a):\n    for x in a:\n        a[0] = x"),
+    ("L23", "def f(a):\n    for k, x in enumerate(a):\n        a += [k]"), ("L26", "def f(a):\n    a.told = 1"),
+    ("L28", "class A:\n    def __len__(self):\n        return 1"), ("L5", "class A:\n    'told'"),
     ("L6", "def f(a):\n    try:\n        f(a)\n    except KeyError:\n        pass"),
 ]
 

@@ -1,9 +1,9 @@
 import random
 import unittest
 
-from bracketnumbers.errors import BracketError, NoPlace, NoRow
 from bracketnumbers.numbers import count, next_row, number, row_of
 from bracketnumbers.rows import depth, is_whole
+from holding import Refusals
 from samples import LARGEST, all_whole_rows, long_texts, sample_rows, spoilt, unwhole_texts
 
 SMALL = 8
@@ -24,14 +24,6 @@ def counts_by_products(bound):
     for size in range(1, LARGEST + 1):
         counts.append(sum(within[part] * counts[size - 1 - part] for part in range(size)))
     return counts
-
-
-class Refusals(unittest.TestCase):
-    def assert_no_row(self, called, *given):
-        for taken in (NoRow, BracketError, ValueError):
-            with self.assertRaises(taken) as held:
-                called(*given)
-            self.assertNotIsInstance(held.exception, NoPlace)
 
 
 class Count(unittest.TestCase):
